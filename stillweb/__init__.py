@@ -1,0 +1,1 @@
+"""Stillweb: programs laid out once as a web that never changes, and one messenger who walks it."""
