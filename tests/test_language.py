@@ -133,6 +133,51 @@ class Shapes(unittest.TestCase):
             elif isinstance(node.func, ast.Attribute):
                 self.assertIn(node.func.attr, set(METHODS) | defined, told(name, node))
 
+    def test_no_imports_in_a_circle(self):
+        needs = {name: {node.module.partition(".")[2] + ".py" for node in tree.body if isinstance(node, ast.ImportFrom)}
+                 for name, tree in TREES.items()}
+        while needs:
+            ready = [name for name in needs if not needs[name] & set(needs)]
+            self.assertNotEqual(ready, [], needs)
+            for name in ready:
+                del needs[name]
+
+    def test_each_import_is_used(self):
+        for name, tree in TREES.items():
+            used = {node.id for node in ast.walk(tree) if isinstance(node, ast.Name)}
+            for node in tree.body:
+                if isinstance(node, ast.ImportFrom):
+                    self.assertEqual({alias.name for alias in node.names} - used, set(), told(name, node))
+
+    def test_no_local_name_hides_an_import_a_function_or_a_class(self):
+        for name, tree in TREES.items():
+            taken = {alias.name for node in tree.body if isinstance(node, ast.ImportFrom) for alias in node.names}
+            taken |= {node.name for node in tree.body if isinstance(node, (ast.ClassDef, ast.FunctionDef))}
+            for function in (node for node in ast.walk(tree) if isinstance(node, ast.FunctionDef)):
+                for node in ast.walk(function):
+                    bound = node.arg if isinstance(node, ast.arg) else None
+                    if isinstance(node, ast.Name) and not isinstance(node.ctx, ast.Load):
+                        bound = node.id
+                    self.assertNotIn(bound, taken, told(name, node))
+
+    def test_errors_are_made_where_they_are_raised(self):
+        for name, node in found(ast.Raise):
+            self.assertIsInstance(node.exc, ast.Call, told(name, node))
+            self.assertIsInstance(node.exc.func, ast.Name, told(name, node))
+
+    def test_what_is_iterated_at_once_is_not_stored(self):
+        at_once = ("zip", "enumerate", "reversed", "range")
+        for name, node in found((ast.Assign, ast.Return)):
+            if isinstance(node.value, ast.Call) and isinstance(node.value.func, ast.Name):
+                self.assertNotIn(node.value.func.id, at_once, told(name, node))
+
+    def test_no_tables_at_module_level_within_others(self):
+        for name, tree in TREES.items():
+            for node in tree.body:
+                if isinstance(node, ast.Assign):
+                    inner = [part for part in ast.walk(node.value) if isinstance(part, (ast.List, ast.Dict, ast.Set))]
+                    self.assertIn(inner, ([], [node.value]), told(name, node))
+
     def test_no_name_twice_at_module_level(self):
         for name, tree in TREES.items():
             bound = [part.name for part in tree.body if hasattr(part, "name")]
