@@ -1,7 +1,8 @@
 """The looker: a program's kind, or the first refusal that is due."""
 
 from stillweb.errors import NoKind, NoName, Twice
-from stillweb.places import insides_first, places
+from stillweb.places import places
+from stillweb.shapes import insides_first, shapes
 
 
 def look(program):
@@ -14,9 +15,18 @@ def kinds_of(program):
     names, term = program
     each_once(names)
     rows = places(term)
+    shaped = shapes([part[0] for part, binder in rows])
     kinds = [None] * len(rows)
-    for at in insides_first(rows):
-        kinds[at] = kind_at(rows, kinds, names, at)
+    for at in insides_first(shaped):
+        part, binder = rows[at]
+        if part[0] != "name":
+            kinds[at] = kind_over(part, [kinds[k] for k in shaped[at][0]], at)
+        elif binder is not None:
+            kinds[at] = bound_kind(rows, kinds, binder)
+        elif part[1] in names:
+            kinds[at] = "num"
+        else:
+            raise NoName(at)
     return kinds
 
 
@@ -27,41 +37,30 @@ def each_once(names):
             raise Twice(name)
 
 
-def kind_at(rows, kinds, names, at):
-    """The kind of a part, where the kinds of all that it hangs on are known."""
-    part = rows[at][0]
+def bound_kind(rows, kinds, binder):
+    """The kind of a name that part `binder` binds."""
+    part = rows[binder][0]
+    if part[0] == "let":
+        # A let's a stands right behind it in reading order.
+        return kinds[binder + 1]
+    return part[2]
+
+
+def kind_over(part, inner, at):
+    """The kind of a part that is no name, by the kinds of the terms right in it."""
     word = part[0]
-    if word == "num":
-        return "num"
-    if word == "name":
-        return name_kind(rows, kinds, names, at)
-    inner = [kinds[k] for k in rows[at][1]]
     if word == "fn":
         return (part[2], inner[0])
     if word == "let":
         return inner[1]
     if word == "call":
         return call_kind(inner[0], inner[1], at)
+    # What is left is of the one kind that all right in it must have.
     due = part[2] if word == "rec" else "num"
-    # What is left, a rec, an op and an if, is of the one kind that all in it must have.
     for kind in inner:
         if kind != due:
             raise NoKind(at)
     return due
-
-
-def name_kind(rows, kinds, names, at):
-    """The kind of a name."""
-    binder = rows[at][3]
-    if binder is None:
-        if rows[at][0][1] not in names:
-            raise NoName(at)
-        return "num"
-    binding = rows[binder][0]
-    if binding[0] == "let":
-        # A let's a stands right behind it in reading order.
-        return kinds[binder + 1]
-    return binding[2]
 
 
 def call_kind(kind, given, at):

@@ -1,26 +1,20 @@
-"""Places: where each part of a term stands, and what binds it."""
+"""Places: what binds each part of a term."""
 
 from stillweb.terms import scopes
 
 
 def places(term):
-    """A row for each part, in reading order: (the part, the numbers of the parts right in it, the number of the
-    part in which it stands, that of the part that binds it); None where there is no such part."""
+    """Each part of a term, in reading order, with the number of the part that binds it, or None."""
     found = []
-    insides = []
-    due = [(term, None, {})]
+    due = [(term, {})]
     while due:
-        part, above, binders = due.pop()
+        part, binders = due.pop()
         at = len(found)
-        binder = binders.get(part[1]) if part[0] == "name" else None
-        found.append((part, above, binder))
-        insides.append([])
-        if above is not None:
-            insides[above].append(at)
+        found.append((part, binders.get(part[1]) if part[0] == "name" else None))
         # The last one put there is the next one taken, so the first part goes last.
         for inner, names in scopes(part)[::-1]:
-            due.append((inner, at, with_binder(binders, names, at)))
-    return [(part, tuple(inside), above, binder) for (part, above, binder), inside in zip(found, insides)]
+            due.append((inner, with_binder(binders, names, at)))
+    return found
 
 
 def with_binder(binders, names, at):
@@ -29,14 +23,3 @@ def with_binder(binders, names, at):
     for name in names:
         near[name] = at
     return near
-
-
-def insides_first(rows):
-    """The numbers of all parts, those within a part ahead of it, from left to right."""
-    order = []
-    due = [0]
-    while due:
-        at = due.pop()
-        order.append(at)
-        due.extend(rows[at][1])
-    return order[::-1]

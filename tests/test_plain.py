@@ -202,7 +202,8 @@ class Refused(Runs):
         for most in (1, 2, 17, 2000):
             self.refused(((), LOOP), (), most, TooLong, most)
             self.refused((("y",), ("op", "+", Y, LOOP)), (4,), most, TooLong, most)
-        self.refused(read("inputs tell ( call ( rec f < num num > ( fn x num ( call f x ) ) ) 1 )"), (), 999, TooLong, 999)
+        calling = read("inputs tell ( call ( rec f < num num > ( fn x num ( call f x ) ) ) 1 )")
+        self.refused(calling, (), 999, TooLong, 999)
 
     def test_just_two_hundred_parts_behind_a_step_and_one_more(self):
         self.assertEqual(len(parts(stepped(grown(1)[1]))), 200)
