@@ -4,21 +4,28 @@ from stillweb.errors import NoStep
 from stillweb.gates import is_leaf, number_at, number_at_hand, part_for
 from stillweb.heads import come_to
 from stillweb.routes import gate_for, is_route, routed, turned_about
+from stillweb.slips import Book
 
 
 def back(web, values, stop, slips):
     """The last stop, and the slips that are then there."""
+    book = Book(slips)
+    last = last_stop(web, values, stop, book)
+    return last, book.all_slips()
+
+
+def last_stop(web, values, stop, book):
+    """The last stop; slips are written in the book."""
     turned = turned_about(stop)
     gate, which = gate_for(web, turned)
     if is_route(web[gate][0]):
-        last, then = routed(web, turned, slips)
-        return turned_about(last), then
+        return turned_about(routed(web, turned, book))
     # Where something is reckoned, there is no tape.
     if stop[3]:
         raise NoStep()
     if which is None:
-        return before_telling(web, values, stop), slips
-    return before_asking(web, gate, which, stop), slips
+        return before_telling(web, values, stop)
+    return before_asking(web, gate, which, stop)
 
 
 def before_telling(web, values, stop):

@@ -3,19 +3,27 @@
 from stillweb.errors import NoStep
 from stillweb.heads import come_to
 from stillweb.routes import gate_for, is_route, routed
+from stillweb.slips import Book
 
 
 def on(web, values, stop, slips):
     """The next stop, and the slips that are then there."""
+    book = Book(slips)
+    then = next_stop(web, values, stop, book)
+    return then, book.all_slips()
+
+
+def next_stop(web, values, stop, book):
+    """The next stop; slips are written in the book."""
     gate, which = gate_for(web, stop)
     if is_route(web[gate][0]):
-        return routed(web, stop, slips)
+        return routed(web, stop, book)
     # Where something is reckoned, there is no tape.
     if stop[3]:
         raise NoStep()
     if which is None:
-        return asked(web, values, stop), slips
-    return told(web, gate, which, stop), slips
+        return asked(web, values, stop)
+    return told(web, gate, which, stop)
 
 
 def asked(web, values, stop):

@@ -4,18 +4,39 @@ from stillweb.errors import NoStep
 from stillweb.webs import depth_at
 
 
+class Book:
+    """The slips of a messenger on its way."""
+
+    def __init__(self, slips):
+        self.rows = list(slips)
+        # The first number of each slip, made when one is first written: most moves write none.
+        self.numbers = None
+
+    def number_for(self, slip):
+        """The number of a slip that is written: of the one that is there, the first one, or else behind all."""
+        if self.numbers is None:
+            self.numbers = {}
+            for k, there in enumerate(self.rows):
+                self.numbers.setdefault(there, k)
+        if slip not in self.numbers:
+            self.numbers[slip] = len(self.rows)
+            self.rows.append(slip)
+        return self.numbers[slip]
+
+    def entry_for(self, slip):
+        """The entry that stands for a slip that is written."""
+        return ("slip", self.number_for(slip))
+
+    def all_slips(self):
+        """All slips, in order."""
+        return tuple(self.rows)
+
+
 def slip_for(slips, slip):
     """The number of a slip, and the slips with it: the one that is there, or else a new one behind all."""
-    for k, there in enumerate(slips):
-        if there == slip:
-            return k, slips
-    return len(slips), slips + (slip,)
-
-
-def entry_for(slips, slip):
-    """The entry that stands for a slip, and the slips with it."""
-    k, then = slip_for(slips, slip)
-    return ("slip", k), then
+    book = Book(slips)
+    k = book.number_for(slip)
+    return k, book.all_slips()
 
 
 def own_slip(gate):
@@ -23,16 +44,16 @@ def own_slip(gate):
     return gate, ()
 
 
-def slip_at_hand(entries, slips):
+def slip_at_hand(entries, book):
     """The slip at hand in a tape or log, or None."""
     if entries and entries[0][0] == "slip":
-        return slips[entries[0][1]]
+        return book.rows[entries[0][1]]
     return None
 
 
-def names_slip(web, binder, entries, slips):
+def names_slip(web, binder, entries, book):
     """The slip at hand in a tape or log, which must be one of the binder's names."""
-    slip = slip_at_hand(entries, slips)
+    slip = slip_at_hand(entries, book)
     if slip is None:
         raise NoStep()
     gate, kept = slip

@@ -126,9 +126,10 @@ class Shapes(unittest.TestCase):
 
     def test_names_that_are_called(self):
         defined = {node.name for name, node in found((ast.FunctionDef, ast.ClassDef))}
+        stored = {inner.id for _, inner in found(ast.Name) if isinstance(inner.ctx, ast.Store)}
+        stored |= {inner.arg for _, inner in found(ast.arg)}
         for name, node in found(ast.Call):
             if isinstance(node.func, ast.Name):
-                stored = {inner.id for _, inner in found(ast.Name) if isinstance(inner.ctx, ast.Store)}
                 self.assertIn(node.func.id, set(BUILTINS) | defined | stored, told(name, node))
             elif isinstance(node.func, ast.Attribute):
                 self.assertIn(node.func.attr, set(METHODS) | defined, told(name, node))
