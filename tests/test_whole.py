@@ -6,12 +6,17 @@ from stillweb.crossing import crossed, part_web
 from stillweb.errors import TooLong, TooMany
 from stillweb.gates import on
 from stillweb.heads import stepped
+from stillweb.leaps import leapt
+from stillweb.linking import linked
 from stillweb.looker import kinds_of
+from stillweb.machine import machine_run
 from stillweb.plain import plain, with_values
+from stillweb.stands import machine_of
 from stillweb.terms import parts
 from stillweb.walk import walked
 from stillweb.webs import is_web, laid
 from tests.moves import ON, slip
+from tests.test_linking import pairs
 from tests.walks import all_let_by, ended, tried
 
 
@@ -70,6 +75,47 @@ class WalkAndPlainRun(unittest.TestCase):
     def test_no_stop_comes_twice(self):
         for program, web, values, number, stops, slips in ended():
             self.assertEqual(len(set(stops)), len(stops))
+
+
+class OneNumber(unittest.TestCase):
+    def numbers(self, program, values, seen):
+        """The numbers told by all that can be asked of a program."""
+        web, found = laid(program), []
+        asked = (("plain", lambda: plain(program, values, 150)), ("walk", lambda: walked(web, values, 800)),
+                 ("leaps", lambda: leapt(web, values, 800)),
+                 ("machine", lambda: machine_run(machine_of(web, 300), values, 800)))
+        for word, told in asked:
+            try:
+                found.append(told()[0])
+                seen[word] = seen.get(word, 0) + 1
+            except (TooLong, TooMany):
+                continue
+        return found
+
+    def test_plain_run_walk_leaps_and_machine(self):
+        seen = {}
+        for program, values in tried():
+            self.assertLessEqual(len(set(self.numbers(program, values, seen))), 1)
+        self.assertGreater(min(seen.values()), 550)
+
+    def test_linking_too(self):
+        seen = {}
+        for one, other, values, call, walk in pairs():
+            number, crossings = linked(laid(one), laid(other), values, 800)
+            program = (one[0], ("call", one[1], other[1]))
+            self.assertEqual(set(self.numbers(program, values, seen)), {number})
+        self.assertGreater(min(seen.values()), 300)
+
+    def test_a_machine_goes_the_walk_of_each_program_that_has_one(self):
+        for program, values in tried()[::3]:
+            web = laid(program)
+            try:
+                rows = machine_of(web, 300)
+            except TooMany:
+                continue
+            number, stops, slips = walked(web, values, 5000)
+            told, road = machine_run(rows, values, 5000)
+            self.assertEqual([rows[at][:2] for at in road], [stop[:2] for stop in stops])
 
 
 class Tapes(unittest.TestCase):
