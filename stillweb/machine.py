@@ -28,5 +28,6 @@ def done(deed, numbers, values):
         m, n = numbers[:2]
         return deed[2], [come_to(deed[1], n, m)] + numbers[2:]
     if word == "test":
-        return deed[1] if numbers[0] != 0 else deed[2], numbers
+        then = deed[1] if numbers[0] != 0 else deed[2]
+        return then, numbers
     return deed[2], [numbers[place] for place in deed[1]]

@@ -142,7 +142,8 @@ class Crossed(unittest.TestCase):
             for tape in tapes:
                 told = crossed(SAME, (), value, (ON,) + tape, slips, 10)
                 self.assertEqual(told, (value, (slip(0),) + tape, slips, 2))
-                self.assertEqual(crossed(SAME, (), value, (slip(0),) + tape, slips, 10), (value, (ON,) + tape, slips, 2))
+                told = crossed(SAME, (), value, (slip(0),) + tape, slips, 10)
+                self.assertEqual(told, (value, (ON,) + tape, slips, 2))
                 if slip(1) not in tape and slip(0) not in tape:
                     self.assertEqual(crossed(SAME, (), value, (ON,) + tape, (), 10),
                                      (value, (slip(0),) + tape, ((1, ()),), 2))
@@ -166,7 +167,8 @@ class Crossed(unittest.TestCase):
 
     def test_no_step(self):
         for web, value, tape, slips in (
-            (SAME, None, (), ()), (SAME, 3, (), ()), (SAME, None, (far(0),), ()), (SAME, None, (far(1), ON), ((1, ()),)),
+            (SAME, None, (), ()), (SAME, 3, (), ()), (SAME, None, (far(0),), ()),
+            (SAME, None, (far(1), ON), ((1, ()),)),
             (SAME, 3, (slip(0),), ((1, (num(2),)),)), (SAME, 3, (slip(0),), ((0, ()),)),
             (web_of("inputs tell 4"), 4, (), ()), (web_of("inputs tell 4"), None, (ON,), ()),
             (web_of("inputs tell 4"), None, (far(2),), ()), (INC, None, (ON, ON), ()), (INC, 2, (ON,), ()),
@@ -212,7 +214,7 @@ class Crossed(unittest.TestCase):
         self.assertGreater(min(seen.values()), 20)
 
     def test_parts_of_kind_num_as_webs(self):
-        """A part without names from outside, of kind num, tells by itself what it tells when it is asked in the walk."""
+        """A part without names from outside that is asked for a number tells by itself what it tells in the walk."""
         tried_parts = 0
         for program, web, values, number, stops, slips in ended()[::3]:
             for stop, then in zip(stops, stops[1:]):

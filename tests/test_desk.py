@@ -8,6 +8,7 @@ from stillweb.errors import NoKind, NoMessenger, NoName, NoRow, NoStep, NoText, 
 from stillweb.gates import on
 from stillweb.leaps import leapt
 from stillweb.linking import linked
+from stillweb.messenger import entry_text
 from stillweb.plain import plain
 from stillweb.reader import read
 from stillweb.stands import machine_of
@@ -315,6 +316,11 @@ class OnTheWay(AtDesk):
             seen |= {word.rstrip("0123456789") for word in desk.say("here").split(" ")}
         self.assertEqual(seen, {"", "in", "out", "asks", "tape", "log", "roll", "on", "s", "n"})
 
+    def test_texts_of_entries(self):
+        """At a desk no entry is a far one, but it has a text."""
+        for entry, text in ((("on",), "on"), (("slip", 0), "s0"), (("far", 12), "f12"), (("num", 1000), "n1000")):
+            self.assertEqual(entry_text(entry), text)
+
     def test_no_messenger(self):
         for row in ("on 1", "back 0", "here", "on 500"):
             desk = opened()
@@ -435,7 +441,8 @@ class Refused(AtDesk):
         good = (("here", "5 out 21 tape log s0 roll 0"), ("run double 21", "42 in 2"), ("stands double", "18"),
                 ("link inc seven", "8 by 3"), ("leap double 21", "42 in 15"))
         for row in ("set nothing", "set double", "set double 1 2", "set inc", "on 501", "back", "here 1", "walk loop",
-                    "stands loop", "run grow", "link inc loop", "keep double", "keep double x", "keep inc inputs tell x",
+                    "stands loop", "run grow", "link inc loop", "keep double", "keep double x",
+                    "keep inc inputs tell x",
                     "keep seven inputs x x tell x", "keep loop inputs tell ( call 1 1 )", "nothing", "set nothing 5",
                     "set loop 5"):
             self.assertRaises((NoRow, Unknown, TooLong, TooMany, NoText, NoName, NoKind, Twice), desk.say, row)

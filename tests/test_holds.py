@@ -143,7 +143,8 @@ class Holds(unittest.TestCase):
         for web, values, stops, slips in walks:
             for other, others, stops_there, slips_there in walks:
                 if (other, others) != (web, values):
-                    self.assertEqual(walk_holds(other, others, stops, slips), (stops, slips) == (stops_there, slips_there))
+                    due = (stops, slips) == (stops_there, slips_there)
+                    self.assertIs(walk_holds(other, others, stops, slips), due)
         web = web_of("inputs n tell ( + n 1 )")
         number, stops, slips = walked(web, (4,), 100)
         self.holds(web, (4,), stops, slips)

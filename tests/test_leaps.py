@@ -2,18 +2,16 @@
 
 import unittest
 
-from stillweb.errors import NoStep, TooLong
+from stillweb.errors import TooLong
 from stillweb.gates import on
 from stillweb.leaps import leapt
-from stillweb.reader import read
 from stillweb.slips import slip_for
-from stillweb.terms import free
 from stillweb.walk import walked
-from stillweb.webs import depth_at, laid
+from stillweb.webs import depth_at
 from tests.moves import ON, has_form, num, slip, web_of
+from tests.refusals import WalkRefusals
 from tests.runs import RUNS, SUM_TO
-from tests.samples import all_plain, many_terms
-from tests.test_walk import STUCK
+from tests.samples import all_plain
 from tests.walks import DOOR, each_move, ended
 
 # (text, values, stops but for the door's, slips)
@@ -116,7 +114,10 @@ def read_by(stop, numbers):
     return stop[:3] + (row(stop[3]), row(stop[4]), stop[5])
 
 
-class Leapt(unittest.TestCase):
+class Leapt(WalkRefusals, unittest.TestCase):
+    tell = leapt
+    move = leap
+
     def test_by_hand(self):
         for text, values, stops, slips in BY_HAND:
             told = leapt(web_of(text), values, 100)
@@ -178,45 +179,6 @@ class Leapt(unittest.TestCase):
         self.assertEqual(leapt(web, (3,), 15)[0], 6)
         self.assertRaises(TooLong, walked, web, (3,), 15)
         self.assertRaises(TooLong, leapt, web, (3,), 14)
-
-    def test_without_an_end(self):
-        for text in ("inputs tell ( rec x num x )", "inputs tell ( + 1 ( rec x num ( + x 1 ) ) )",
-                     "inputs tell ( call ( rec f < num num > ( fn x num ( call f x ) ) ) 3 )"):
-            for most in (1, 50, 2000):
-                with self.assertRaises(TooLong) as caught:
-                    leapt(web_of(text), (), most)
-                self.assertEqual(caught.exception.most, most)
-
-    def test_kinds_that_do_not_fit(self):
-        for text, moves in STUCK:
-            names, term = read(text)
-            web, values = laid((names, term)), (4,) * len(names)
-            moves = len(each_move(web, values, move=leap)[0]) - 1
-            for most in (moves, moves + 1, 2000):
-                if most:
-                    self.assertRaises(NoStep, leapt, web, values, most)
-            for most in range(1, moves):
-                self.assertRaises(TooLong, leapt, web, values, most)
-
-    def test_no_step_and_too_long_over_many_webs(self):
-        seen = {"told": 0, "NoStep": 0, "TooLong": 0}
-        for at, term in enumerate(many_terms()[::5]):
-            names = tuple(free(term))
-            web, values = laid((names, term)), (at % 3, 1)[:len(names)]
-            stops, slips = each_move(web, values, move=leap, most=31)
-            for most in (len(stops) - 1, len(stops) - 2, 30):
-                if not 1 <= most <= 30:
-                    continue
-                due = "told" if stops[-1][:2] == (0, "out") else "NoStep"
-                due = due if most >= len(stops) - 1 else "TooLong"
-                try:
-                    self.assertEqual(leapt(web, values, most), (stops[-1][2], stops, slips))
-                    told = "told"
-                except (NoStep, TooLong) as refusal:
-                    told = type(refusal).__name__
-                self.assertEqual(told, due)
-                seen[told] += 1
-        self.assertGreater(min(seen.values()), 100)
 
     def test_slips_hundreds_deep(self):
         web = web_of("inputs n tell ( call ( rec f < num num > ( fn x num ( if x ( call f ( - x 1 ) ) 9 ) ) ) n )")

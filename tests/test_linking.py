@@ -131,7 +131,8 @@ class Linked(unittest.TestCase):
         """A function given a builder: both have slips of their own and of the other on the tape."""
         one, other, values, number = by_text(*BY_HAND[9])
         number, crossings = linked(laid(one), laid(other), values, 1000)
-        words = {(row[0], entry[0], k > 0) for row in crossings for tape in (row[2], row[4]) for k, entry in enumerate(tape)}
+        words = {(row[0], entry[0], k > 0)
+                 for row in crossings for tape in (row[2], row[4]) for k, entry in enumerate(tape)}
         for which in (0, 1):
             for word in ("slip", "far"):
                 self.assertIn((which, word, True), words)

@@ -6,15 +6,14 @@ from stillweb.backs import back
 from stillweb.errors import NoStep, TooLong
 from stillweb.gates import on
 from stillweb.plain import with_values
-from stillweb.reader import read
-from stillweb.terms import free
-from stillweb.walk import gone, retraced, walked
-from stillweb.webs import is_web, laid
+from stillweb.walk import gone, is_end, retraced, walked
+from stillweb.webs import laid
 from tests.drawn import Draw
-from tests.moves import LETS, LETS_SLIPS, ON, RECS, RECS_SLIPS, SUMS, SUMS_SLIPS, SUMS_VALUES, has_form, num, read_so, slip
-from tests.moves import web_of
+from tests.moves import (
+    LETS, LETS_SLIPS, ON, RECS, RECS_SLIPS, SUMS, SUMS_SLIPS, SUMS_VALUES, has_form, num, read_so, slip, web_of)
+from tests.refusals import WalkRefusals
 from tests.runs import FIB, RUNS, SUM_TO
-from tests.samples import all_plain, many_terms
+from tests.samples import all_plain
 from tests.test_moves import drawn_slips, drawn_stop
 from tests.walks import DOOR, each_move, each_move_back, ended
 
@@ -83,24 +82,9 @@ BY_HAND = (
     ], ((3, ()), (4, (num(3),)))),
 )
 
-# Programs whose kinds don't fit, and by how many moves their walks come to a stop without a next one.
-STUCK = (
-    ("inputs tell ( fn x num x )", 0),
-    ("inputs tell ( call 5 6 )", 1),
-    ("inputs n tell ( call n n )", 1),
-    ("inputs tell ( + ( fn x num x ) 1 )", 1),
-    ("inputs tell ( + 1 ( fn x num x ) )", 3),
-    ("inputs tell ( if ( fn x num x ) 1 2 )", 1),
-    ("inputs tell ( if 0 1 ( fn x num x ) )", 3),
-    ("inputs tell ( let f 3 ( call f 3 ) )", 3),
-    ("inputs tell ( let f 3 ( + f ( call f 3 ) ) )", 8),
-    ("inputs tell ( rec x num ( fn y num y ) )", 1),
-    ("inputs tell ( call ( fn f num ( call f 1 ) ) 5 )", 5),
-    ("inputs tell ( call ( fn f num ( + f 1 ) ) ( fn x num x ) )", 5),
-)
+class Walked(WalkRefusals, unittest.TestCase):
+    tell = walked
 
-
-class Walked(unittest.TestCase):
     def test_by_hand(self):
         for text, values, stops, slips in BY_HAND:
             told = walked(web_of(text), values, 100)
@@ -139,50 +123,6 @@ class Walked(unittest.TestCase):
                     with self.assertRaises(TooLong) as caught:
                         walked(web, values, most)
                     self.assertEqual(caught.exception.most, most)
-
-    def test_without_an_end(self):
-        for text, values in (("inputs tell ( rec x num x )", ()),
-                             ("inputs tell ( + 1 ( rec x num ( + x 1 ) ) )", ()),
-                             ("inputs n tell ( call ( rec f < num num > ( fn x num ( call f x ) ) ) n )", (3,)),
-                             ("inputs n tell ( rec x num ( if n x 0 ) )", (1,))):
-            for most in (1, 2, 77, 2000):
-                with self.assertRaises(TooLong) as caught:
-                    walked(web_of(text), values, most)
-                self.assertEqual(caught.exception.most, most)
-        self.assertEqual(walked(web_of("inputs n tell ( rec x num ( if n x 0 ) )"), (0,), 2000)[0], 0)
-
-    def test_kinds_that_do_not_fit(self):
-        for text, moves in STUCK:
-            names, term = read(text)
-            web, values = laid((names, term)), (4,) * len(names)
-            self.assertTrue(is_web(web, len(names)))
-            self.assertEqual(len(each_move(web, values)[0]) - 1, moves, text)
-            # No more than `most` moves come where there is no next one.
-            for most in (moves, moves + 1, 2000):
-                if most:
-                    self.assertRaises(NoStep, walked, web, values, most)
-            for most in range(1, moves):
-                self.assertRaises(TooLong, walked, web, values, most)
-
-    def test_no_step_and_too_long_over_many_webs(self):
-        seen = {"told": 0, "NoStep": 0, "TooLong": 0}
-        for at, term in enumerate(many_terms()[::5]):
-            names = tuple(free(term))
-            web, values = laid((names, term)), (at % 3, 1)[:len(names)]
-            stops, slips = each_move(web, values, most=31)
-            for most in (len(stops) - 1, len(stops) - 2, 30):
-                if not 1 <= most <= 30:
-                    continue
-                due = "told" if stops[-1][:2] == (0, "out") else "NoStep"
-                due = due if most >= len(stops) - 1 else "TooLong"
-                try:
-                    self.assertEqual(walked(web, values, most), (stops[-1][2], stops, slips))
-                    told = "told"
-                except (NoStep, TooLong) as refusal:
-                    told = type(refusal).__name__
-                self.assertEqual(told, due)
-                seen[told] += 1
-        self.assertGreater(min(seen.values()), 100)
 
     def test_values_as_numbers_in_their_places(self):
         for program, web, values, number, stops, slips in ended():
@@ -298,7 +238,8 @@ class Gone(unittest.TestCase):
                 self.assertEqual(gone(LETS, [(wire, way, None, (ON,), (num(3),), ())]), rows)
 
     def test_some_stops(self):
-        told = gone(LETS, [DOOR, (1, "out", 5, (), (), ()), (1, "out", None, (), (), ()), DOOR, (1, "in", 5, (), (), ())])
+        ones = [(1, "out", 5, (), (), ()), (1, "out", None, (), (), ()), (1, "in", 5, (), (), ())]
+        told = gone(LETS, [DOOR] + ones[:2] + [DOOR] + ones[2:])
         self.assertEqual(told, [(2, 0), (1, 2)] + [(0, 0)] * 6)
         self.assertEqual({type(row) for row in told}, {tuple})
 
@@ -324,6 +265,15 @@ class Gone(unittest.TestCase):
         gone(RECS, stops).clear()
         self.assertEqual(stops, kept)
         self.assertEqual(len(gone(RECS, stops)), len(RECS))
+
+
+class Ends(unittest.TestCase):
+    def test_where_a_walk_comes_out(self):
+        self.assertIs(is_end((0, "out", 0, (), (), ())), True)
+        self.assertIs(is_end((0, "out", 7, (), (), ((1,), (2, 3)))), True)
+        for stop in ((1, "out", 7, (), (), ()), (0, "in", 7, (), (), ()), (0, "out", None, (), (), ()),
+                     (0, "out", 7, (ON,), (), ()), (0, "out", 7, (), (num(3),), ())):
+            self.assertIs(is_end(stop), False)
 
 
 class OneMove(unittest.TestCase):
